@@ -1,0 +1,1 @@
+"""Any stretch of an event log, replayed from a few kept tables."""
