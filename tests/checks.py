@@ -1,4 +1,4 @@
-"""What several tests share: odd values, sample programs and a check for refusals."""
+"""What several tests share: odd values, sample programs, lists of events for them and a check for refusals."""
 
 import random
 import unittest
@@ -50,6 +50,10 @@ ODD = [
 ]
 
 
+# Events for drops(); the heights of the places are 3, 0, 1, 0, 2 and 1.
+STEPS = [("add", 1), ("noa", 0), ("add", 2), ("nob", 0), ("noa", 0)]
+
+
 def cash():
     """The program of the examples in the document."""
     return Program(["on"], ["cash"], ["pay", "reset"], [
@@ -98,6 +102,25 @@ def many():
             ("q", (("one", 4), ("q", 1000))),
         )),
         ("m", "zero", "m", (("r", ()), ("p", (("r", 1),)))),
+    ])
+
+
+def drops():
+    """One mode and two registers, each of which can be forgotten."""
+    return Program(["on"], ["a", "b"], ["add", "noa", "nob"], [
+        ("on", "add", "on", (("a", (("a", 1), ("amount", 1))), ("b", (("b", 2), ("a", 1))))),
+        ("on", "noa", "on", (("a", ()),)),
+        ("on", "nob", "on", (("b", ()),)),
+    ])
+
+
+def keeps():
+    """Two modes and two registers; no event forgets anything."""
+    return Program(["on", "off"], ["a", "b"], ["go", "mix", "swap"], [
+        ("on", "go", "off", ()), ("off", "go", "on", (("a", (("a", -3), ("one", 5))),)),
+        ("on", "mix", "on", (("a", (("a", 1), ("b", 2), ("amount", -7))),)),
+        ("off", "mix", "off", (("b", (("a", 4), ("b", 1))),)),
+        ("on", "swap", "on", (("a", (("b", 1),)), ("b", (("a", 1),)))),
     ])
 
 
@@ -152,6 +175,33 @@ def some_event(dice, program):
 def some_events(dice, program, most=8):
     """A random list of events of a program."""
     return [some_event(dice, program) for _ in range(dice.randint(0, most))]
+
+
+def some_logs(seed, many, most=14):
+    """Random pairs of a program and a list of events."""
+    dice = chance(seed)
+    for _ in range(many):
+        program = some_program(dice)
+        yield program, some_events(dice, program, most)
+
+
+def sample_logs(seed, lengths=(0, 1, 2, 9, 25)):
+    """Pairs of each sample program, and of those that forget step by step or never, and random lists of events."""
+    dice = chance(seed)
+    for program in [*samples(), drops(), keeps()]:
+        for length in lengths:
+            yield program, [some_event(dice, program) for _ in range(length)]
+
+
+def pairs(size):
+    """All pairs of a first and a last place of a log with so many events."""
+    return [(first, last) for first in range(size + 1) for last in range(first, size + 1)]
+
+
+def beyond(least, most):
+    """Values that are no integers from least to most: odd ones, and the next ones beyond both ends."""
+    values = ODD + [least - 1, most + 1, -most - 1, (least,), [least], str(least), (least, most), [[most]]]
+    return [value for value in values if type(value) is not int or not least <= value <= most]
 
 
 def moved(program, state, event):

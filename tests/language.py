@@ -41,6 +41,7 @@ NO_ATTRIBUTES = set("""items keys values pop update append clear extend insert r
     encode decode hex fromhex format format_map mro as_integer_ratio bit_count conjugate from_bytes is_integer
     to_bytes""".split())
 NO_FILES = set("test tests testing site conftest sitecustomize usercustomize heapq math itertools".split()) | NOWHERE
+REVERSIBLE = ("list", "tuple", "sorted", "range")
 AT_ONCE = set("list tuple dict sorted sum any all min max enumerate zip bytes len join".split())
 STATEMENTS = (
     ast.FunctionDef, ast.ClassDef, ast.Assign, ast.AnnAssign, ast.AugAssign, ast.If, ast.While, ast.For, ast.Return,
@@ -391,7 +392,13 @@ def raised(source, node, place):
             yield "L19", place
 
 
+def has_items(sources):
+    """Whether a class of the package has items, as lists have them."""
+    return any(part.name == "__getitem__" for source in sources for part in source.of(ast.FunctionDef))
+
+
 def calls(sources):
+    items = has_items(sources)
     methods = {part.name for source in sources for part in source.of(ast.FunctionDef)}
     attributes = {name for source in sources for node in source.of(ast.ClassDef) for name in own_attributes(node)}
     for source in sources:
@@ -411,6 +418,10 @@ def calls(sources):
                 iterated = isinstance(above, (ast.For, ast.comprehension, ast.Assign)) or called(above) in AT_ONCE
                 if not iterated or called(above) == "len":
                     yield "L23", place
+            if items and called(node) == "reversed":
+                turned = node.args[0]
+                if not isinstance(turned, (ast.List, ast.Tuple)) and called(turned) not in REVERSIBLE:
+                    yield "L5", place
             if node.keywords and isinstance(node.func, ast.Name) and node.func.id in BUILTINS:
                 allowed = {"key", "reverse", "default", "start", "strict"}
                 if any(part.arg not in allowed for part in node.keywords):
@@ -476,6 +487,8 @@ def words(sources):
                 if "r" in prefix.lower() or re.search(r"\\[^nt\\'\"]", token.string.replace("\\\\", "")):
                     if "b" not in prefix.lower():
                         yield "L27", place
+        if has_items(sources) and re.search(r"\(type\)|Meta|metaclass=", source.text):
+            yield "L17", source.name
         if re.search(r"_wall\b|_WallAttr", source.text):
             yield "L12", source.name
 

@@ -6,35 +6,7 @@ from twinbegun.tables import row_times, table_times
 from tests.checks import (
     ODD, Checks, bare, cash, chance, letters, lights, many, moved, samples, some_events, some_program, some_state,
 )
-
-
-def plain_row(program, state):
-    """The row of a state, by the definition."""
-    row = []
-    for mode in program.modes():
-        block = (1,) + state[1]
-        row.extend(block if mode == state[0] else [0] * len(block))
-    return tuple(row)
-
-
-def plain_table(program, event):
-    """The table of an event, number by number from the rules."""
-    size = len(program.registers()) + 1
-    registers = program.registers()
-    table = [[0] * program.width for _ in range(program.width)]
-    for at, mode in enumerate(program.modes()):
-        rule = program.rule(mode, event[0]) or (mode, event[0], mode, ())
-        behind = program.modes().index(rule[2])
-        changes = dict(rule[3])
-        table[at * size][behind * size] = 1
-        for column, target in enumerate(registers, start=1):
-            for source, factor in changes.get(target, ((target, 1),)):
-                if source in registers:
-                    line, part = registers.index(source) + 1, factor
-                else:
-                    line, part = 0, factor * {"one": 1, "amount": event[1]}[source]
-                table[at * size + line][behind * size + column] += part
-    return tuple(tuple(row) for row in table)
+from tests.plain import plain_row, plain_table
 
 
 class Rows(Checks):

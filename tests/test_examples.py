@@ -1,9 +1,18 @@
 """The examples of the document that use the modules there are."""
 
 from twinbegun.compiling import row_of, table_of
+from twinbegun.forgetting import falls, meeting, needed_from
+from twinbegun.logs import KeptLog
+from twinbegun.papers import ask, follow
 from twinbegun.programs import Program
 from twinbegun.tables import kernel, rank
+from twinbegun.ways import opened, way
 from tests.checks import Checks, cash
+
+
+def paid():
+    """The log of the examples."""
+    return KeptLog(cash(), [("pay", 3), ("reset", 0), ("pay", 2)])
 
 
 class Examples(Checks):
@@ -22,3 +31,23 @@ class Examples(Checks):
     def test_rank_and_kernel(self):
         found = [rank([(1, 2), (2, 4), (0, 1)]), len(kernel([(1, 2), (2, 4), (0, 1)]))]
         self.assert_same(found, [2, 1])
+
+    def test_heights_cuts_and_kept_tables(self):
+        log = paid()
+        found = [[log.height(place) for place in (0, 1, 2, 3)], log.cuts(1), log.kept(3, 1), log.kept(3, 2)]
+        self.assert_same(found, [[2, 0, 1, 0], [0, 2], (2, ((1, 2), (0, 1))), (0, ((1, 2), (0, 0)))])
+
+    def test_ways(self):
+        log = paid()
+        found = [way(log, 1, 3), opened(way(log, 1, 3)), way(log, 0, 3)]
+        self.assert_same(found, [[("step", 2, 0), ("step", 3, 1)], 2, [("step", 2, 2), ("step", 3, 1)]])
+
+    def test_papers(self):
+        log = paid()
+        found = [ask(log, 1, 3, ("on", (9,))), follow(log, 0, 2, (2, 7)).end, follow(log, 0, 2, (2, 7)).holds(log)]
+        self.assert_same(found, [("on", (2,)), (2, 0), True])
+
+    def test_forgetting(self):
+        log = paid()
+        found = [falls(log, 0), meeting(log, 0, ("on", (1,)), ("on", (7,))), needed_from(log, 3)]
+        self.assert_same(found, [[(2, 1)], 2, 1])

@@ -23,6 +23,26 @@ FUNCTIONS = {
         "table_of": ["program", "event"],
         "is_row": ["program", "value"],
     },
+    "logs": {
+        "first_wrong": ["program", "events", "lots"],
+        "columns": ["log"],
+    },
+    "ways": {
+        "way": ["log", "first", "last"],
+        "opened": ["parts"],
+        "most_opened": ["program"],
+    },
+    "papers": {
+        "follow": ["log", "first", "last", "row"],
+        "ask": ["log", "first", "last", "state"],
+        "whole": ["log", "first", "last"],
+    },
+    "forgetting": {
+        "rank_of": ["log", "first", "last"],
+        "falls": ["log", "first", "last"],
+        "meeting": ["log", "first", "one", "other"],
+        "needed_from": ["log", "place"],
+    },
 }
 
 METHODS = {
@@ -40,6 +60,28 @@ METHODS = {
         "run": ["state", "events"],
         "trail": ["state", "events"],
         "__eq__": ["other"],
+        "__repr__": [],
+    },
+    ("logs", "KeptLog"): {
+        "__init__": ["program", "events"],
+        "put": ["events"],
+        "cut": ["place"],
+        "events": [],
+        "height": ["place"],
+        "cuts": ["level"],
+        "kept": ["place", "level"],
+        "next_cut": ["place", "level"],
+        "last_cut": ["place", "level"],
+        "branch": [],
+        "with_events": ["events"],
+        "__eq__": ["other"],
+        "__repr__": [],
+        "__len__": [],
+    },
+    ("papers", "Paper"): {
+        "__init__": ["first", "last", "start", "end", "parts"],
+        "parts": [],
+        "holds": ["log"],
         "__repr__": [],
     },
 }
@@ -73,3 +115,20 @@ class Interface(unittest.TestCase):
         self.assertIsInstance(members["idle"], classmethod)
         self.assertEqual(members["MOST_WIDTH"], 8)
         self.assertTrue(inspect.isgeneratorfunction(members["trail"]))
+
+    def test_other_members_of_a_log(self):
+        members = vars(module("logs").KeptLog)
+        self.assertIsInstance(members["program"], property)
+        self.assertIsInstance(members["worked"], property)
+        self.assertIn("__getitem__", members)
+        self.assertEqual(inspect.signature(members["put"]).parameters["events"].kind, inspect.Parameter.VAR_POSITIONAL)
+        self.assertEqual(module("logs").MOST_EVENTS, 200)
+
+    def test_the_last_place_of_falls_is_passed_by_name(self):
+        parameter = inspect.signature(module("forgetting").falls).parameters["last"]
+        self.assertEqual((parameter.kind, parameter.default), (inspect.Parameter.KEYWORD_ONLY, None))
+
+    def test_a_paper_has_its_attributes_from_the_beginning(self):
+        paper = module("papers").Paper(1, 2, 3, 4, 5)
+        for name in ("first", "last", "start", "end"):
+            self.assertIn(name, vars(paper))

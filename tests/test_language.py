@@ -71,6 +71,12 @@ class Box:
             if at >= first and row is not None:
                 yield row
 
+    def __getitem__(self, at):
+        return self._rows[at]
+
+    def __iter__(self):
+        raise TypeError("a box is not iterated over")
+
     def __eq__(self, other):
         return isinstance(other, Box) and self._rows == other._rows
 
@@ -101,6 +107,7 @@ BAD = [
     ("L5", "class A:\n    for k in (1, 2):\n        pass"),
     ("L5", "class A(ValueError):\n    CODE = 1"),
     ("L5", "class A:\n    def __getitem__(self, at):\n        return at"),
+    ("L5", "def f(a):\n    return list(reversed(a))"),
     ("L6", "def f():\n    global A\n    A = 1"),
     ("L6", "async def f():\n    return 1"),
     ("L7", "def f(a):\n    return a / 2"),
@@ -128,6 +135,7 @@ BAD = [
     ("L17", "def f(a):\n    return type(a)"),
     ("L17", "def f():\n    return 'a type'"),
     ("L17", "def f(overloaded):\n    return overloaded"),
+    ("L17", "# bad: a Metal box"),
     ("L18", "class A:\n    def f(self):\n        return 1\n\n    def f(self):\n        return 2"),
     ("L18", "class A:\n    def __init__(self):\n        self.f = 1\n\n    def f(self):\n        return 2"),
     ("L19", "def f():\n    try:\n        f()\n    except TypeError:\n        pass"),

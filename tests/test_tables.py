@@ -1,26 +1,10 @@
 """Promises 12 to 15: products, rank, solve and kernel."""
 
 import copy
-from fractions import Fraction
 
-from twinbegun.tables import identity, kernel, rank, row_times, solve, table_times
+from twinbegun.tables import identity, kernel, rank, row_times, solutions, solve, table_times
 from tests.checks import Checks, chance
-
-
-def plain_rank(rows):
-    """The rank by elimination over rational numbers."""
-    left = [[Fraction(number) for number in row] for row in rows]
-    found = 0
-    for column in range(len(rows[0]) if rows else 0):
-        lead = next((at for at in range(found, len(left)) if left[at][column] != 0), None)
-        if lead is None:
-            continue
-        left[found], left[lead] = left[lead], left[found]
-        for at in range(found + 1, len(left)):
-            part = left[at][column] / left[found][column]
-            left[at] = [one - part * other for one, other in zip(left[at], left[found])]
-        found += 1
-    return found
+from tests.plain import plain_rank
 
 
 def summed(rows, factors, width):
@@ -199,6 +183,13 @@ class Solutions(Checks):
         self.check([(big, 1), (1, big)], (7, 11))
         self.check([(big, big)], (3, 3))
         self.check([(big, big)], (3, 4))
+
+    def test_several_rows_at_once(self):
+        dice = chance(28)
+        for rows, width in some_lists(29, 100):
+            wanted = [tuple(dice.randint(-2, 2) for _ in range(width)) for _ in range(4)] + rows
+            self.assert_same(solutions(rows, wanted), [solve(rows, row) for row in wanted])
+        self.assert_same(solutions([(1, 2)], []), [])
 
     def test_by_name(self):
         numerators, denominator = solve(row=(6, 8), rows=[(3, 4)])

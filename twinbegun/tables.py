@@ -26,16 +26,14 @@ def rank(rows):
 
 def solve(rows, row):
     """The row as a sum of rational multiples of the rows, a pair (numerators, denominator), or None."""
-    width = len(row)
-    lines = _marked([*rows, row])
-    basis, _ = _parted(lines[:-1], width)
-    rest = _cleared(lines[-1], basis)
-    if _leading(rest, width) is not None:
-        return None
-    *factors, own = rest[width:]
-    # The rows times their factors and the row times its own one sum up to zeros, so the row changes sides.
-    turn = -1 if own > 0 else 1
-    return tuple([turn * factor for factor in factors]), abs(own)
+    return solutions(rows, [row])[0]
+
+
+def solutions(rows, wanted):
+    """For each of the wanted rows the pair (numerators, denominator) of `solve`, or None."""
+    # Each line ends with the factor of the wanted row.
+    basis, _ = _parted([(*line, 0) for line in _marked(rows)], _width_of(wanted))
+    return [_solution(row, basis, len(rows)) for row in wanted]
 
 
 def kernel(rows):
@@ -43,6 +41,19 @@ def kernel(rows):
     width = _width_of(rows)
     _, rests = _parted(_marked(rows), width)
     return [tuple(rest[width:]) for rest in rests]
+
+
+def _solution(row, basis, many):
+    """The row by as many factors as the lines of the basis were made of, or None."""
+    width = len(row)
+    zeros = [0] * many
+    rest = _cleared((*row, *zeros, 1), basis)
+    if _leading(rest, width) is not None:
+        return None
+    *factors, own = rest[width:]
+    # The rows times their factors and the row times its own one sum up to zeros, so the row changes sides.
+    turn = -1 if own > 0 else 1
+    return tuple([turn * factor for factor in factors]), abs(own)
 
 
 def _width_of(rows):
