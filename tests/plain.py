@@ -204,3 +204,126 @@ class Stretches:
     def needed_from(self, place):
         """The greatest place ahead of which nothing is needed at the place, or None."""
         return max((first for first in range(place + 1) if self.rank(first, place) == 1), default=None)
+
+
+def plain_block(program, table, mode):
+    """The rows of a table for the mode: that of 1, and those of the registers."""
+    size = len(program.registers()) + 1
+    at = program.modes().index(mode) * size
+    return list(table[at]), [list(row) for row in table[at + 1:at + size]]
+
+
+def has_starts(program, table, end, mode):
+    """Whether rational values in the mode lead to the end by this table."""
+    base, rows = plain_block(program, table, mode)
+    rest = [mine - theirs for mine, theirs in zip(plain_row(program, end), base)]
+    return plain_rank(rows + [rest]) == plain_rank(rows)
+
+
+def leads(program, table, mode, values, row):
+    """Whether these values, of fractions, in the mode lead to the row by this table."""
+    base, rows = plain_block(program, table, mode)
+    found = [start + sum(value * line[at] for value, line in zip(values, rows)) for at, start in enumerate(base)]
+    return tuple(found) == tuple(row)
+
+
+def plain_pieces(events, first, last, edits):
+    """The events of the edited stretch, each with the index that it has in the log, or None where it is a new one."""
+    found = []
+    for place in range(first, last + 1):
+        found += [(edit[2], None) for edit in edits if edit[0] == "put" and edit[1] == place]
+        changed = [edit for edit in edits if edit[0] != "put" and edit[1] == place]
+        if changed:
+            found += [(edit[2], None) for edit in changed if edit[0] == "change"]
+        elif place < last:
+            found.append((events[place], place))
+    return found
+
+
+def plain_edited(events, first, last, edits):
+    """The events of the edited stretch."""
+    return [event for event, _ in plain_pieces(events, first, last, edits)]
+
+
+def plain_plan(events, first, last, edits):
+    """The plan: runs as long as the indexes follow each other, and the new events."""
+    found = []
+    for event, index in plain_pieces(events, first, last, edits):
+        if index is None:
+            found.append(("event", event))
+        elif found and found[-1][0] == "run" and found[-1][2] == index:
+            found[-1] = ("run", found[-1][1], index + 1)
+        else:
+            found.append(("run", index, index + 1))
+    return found
+
+
+def plain_value(program, look, state):
+    """The value of a look at a state."""
+    mode, values = state
+    known = dict(zip(program.registers(), values))
+    known["one"] = 1
+    total = 0
+    for source, factor in dict(look).get(mode, ()):
+        total += factor * known[source]
+    return total
+
+
+class Pair:
+    """Two probes, each told by a program, a start and a look, of which the rules are read event by event."""
+
+    def __init__(self, one, other, moved):
+        self.sides = [(probe.program, probe.start, probe.look()) for probe in (one, other)]
+        self._moved = moved
+        self._states = {}
+
+    def states(self, events):
+        """The two states behind the events."""
+        events = tuple(events)
+        if not events:
+            return tuple(start for _, start, _ in self.sides)
+        if events not in self._states:
+            ahead = self.states(events[:-1])
+            self._states[events] = tuple(
+                self._moved(program, state, events[-1]) for (program, _, _), state in zip(self.sides, ahead))
+        return self._states[events]
+
+    def values(self, events):
+        """The two values for the events."""
+        return [plain_value(program, look, state) for (program, _, look), state in zip(self.sides, self.states(events))]
+
+    def row(self, events):
+        """The pair row for the events."""
+        rows = [plain_row(program, state) for (program, _, _), state in zip(self.sides, self.states(events))]
+        return rows[0] + rows[1]
+
+    def steps(self, amounts=(0, 1)):
+        """All events of the signs with these amounts."""
+        return [(sign, amount) for sign in self.sides[0][0].signs() for amount in amounts]
+
+    def is_list(self, value):
+        """Whether a value is a list of events, which both programs have."""
+        return type(value) in (list, tuple) and all(
+            program.is_event(event) for event in value for program, _, _ in self.sides)
+
+    def has_same_signs(self):
+        return set(self.sides[0][0].signs()) == set(self.sides[1][0].signs())
+
+    def alike_holds(self, logs):
+        """Whether an Alike with these lists holds."""
+        if not self.has_same_signs() or type(logs) not in (list, tuple):
+            return False
+        if not all(self.is_list(log) for log in logs):
+            return False
+        rows = [self.row(log) for log in logs]
+        wanted = [self.row([])] + [self.row([*log, event]) for log in logs for event in self.steps()]
+        # Sums of the others do not add to the rank.
+        if plain_rank(rows + wanted) > plain_rank(rows):
+            return False
+        return all(self.values(log)[0] == self.values(log)[1] for log in logs)
+
+    def apart_holds(self, events):
+        """Whether an Apart with these events holds."""
+        if not self.has_same_signs() or not self.is_list(events):
+            return False
+        return self.values(events)[0] != self.values(events)[1]

@@ -1,10 +1,14 @@
 """The examples of the document that use the modules there are."""
 
+from twinbegun.comparing import compare
 from twinbegun.compiling import row_of, table_of
+from twinbegun.edits import amount_for, outcome, plan
 from twinbegun.forgetting import falls, meeting, needed_from
 from twinbegun.logs import KeptLog
 from twinbegun.papers import ask, follow
+from twinbegun.probes import Probe
 from twinbegun.programs import Program
+from twinbegun.starts import starts
 from twinbegun.tables import kernel, rank
 from twinbegun.ways import opened, way
 from tests.checks import Checks, cash
@@ -51,3 +55,25 @@ class Examples(Checks):
         log = paid()
         found = [falls(log, 0), meeting(log, 0, ("on", (1,)), ("on", (7,))), needed_from(log, 3)]
         self.assert_same(found, [[(2, 1)], 2, 1])
+
+    def test_starts(self):
+        log = paid()
+        found = starts(log, 2, 3, ("on", (6,)), "on")
+        free = len(starts(log, 0, 3, ("on", (2,)), "on"))
+        told = [found.has((4,)), found.has((5,)), len(found), free, starts(log, 0, 3, ("on", (6,)), "on")]
+        self.assert_same(told, [True, False, 0, 1, None])
+
+    def test_edits(self):
+        log = paid()
+        edits = [("strike", 1)]
+        state = ("on", (5,))
+        found = [plan(log, 0, 3, edits), outcome(log, 0, 3, state, edits), amount_for(log, 0, 3, state, 2, "cash", 7),
+                 amount_for(log, 0, 3, state, 0, "cash", 2)]
+        self.assert_same(found, [[("run", 0, 1), ("run", 2, 3)], ("on", (10,)), ("one", 7), ("every",)])
+
+    def test_comparing(self):
+        program = cash()
+        other = Program(["on"], ["cash"], ["pay", "reset"], program.rules()[:1])
+        one = Probe(program, ("on", (0,)), [("on", (("cash", 1),))])
+        found = compare(one, Probe(other, ("on", (0,)), one.look()))
+        self.assert_same([found.told(), len(found.events()), compare(one, one).told()], ["apart", 2, "alike"])

@@ -43,6 +43,21 @@ FUNCTIONS = {
         "meeting": ["log", "first", "one", "other"],
         "needed_from": ["log", "place"],
     },
+    "starts": {
+        "starts": ["log", "first", "last", "end", "mode"],
+    },
+    "edits": {
+        "plan": ["log", "first", "last", "edits"],
+        "edited": ["log", "first", "last", "edits"],
+        "outcome": ["log", "first", "last", "state", "edits"],
+        "slope": ["log", "first", "last", "state", "place"],
+        "amount_for": ["log", "first", "last", "state", "place", "target", "value"],
+    },
+    "comparing": {
+        "compare": ["one", "other"],
+        "are_alike": ["one", "other"],
+        "same_effect": ["log", "first", "last", "other", "from_place", "to_place"],
+    },
 }
 
 METHODS = {
@@ -84,6 +99,47 @@ METHODS = {
         "holds": ["log"],
         "__repr__": [],
     },
+    ("starts", "Starts"): {
+        "__init__": ["mode", "numerators", "denominator", "basis"],
+        "basis": [],
+        "has": ["values"],
+        "__len__": [],
+        "__repr__": [],
+    },
+    ("probes", "Probe"): {
+        "__init__": ["program", "start", "look"],
+        "look": [],
+        "value_at": ["state"],
+        "value": ["events"],
+        "__call__": ["events"],
+    },
+    ("comparing", "Comparison"): {
+        "__init__": ["one", "other"],
+        "told": [],
+        "holds": [],
+        "__bool__": [],
+        "__repr__": [],
+    },
+    ("comparing", "Alike"): {
+        "__init__": ["one", "other", "logs"],
+        "logs": [],
+        "told": [],
+        "holds": [],
+        "__bool__": [],
+    },
+    ("comparing", "Apart"): {
+        "__init__": ["one", "other", "events"],
+        "events": [],
+        "told": [],
+        "holds": [],
+    },
+}
+
+PROPERTIES = {
+    ("programs", "Program"): ["width"],
+    ("logs", "KeptLog"): ["program", "worked"],
+    ("probes", "Probe"): ["program", "start"],
+    ("comparing", "Comparison"): ["one", "other"],
 }
 
 
@@ -109,17 +165,19 @@ class Interface(unittest.TestCase):
                 self.assertIn(method, vars(made))
                 self.assertEqual(list(inspect.signature(vars(made)[method]).parameters)[1:], parameters)
 
+    def test_properties(self):
+        for (place, name), properties in PROPERTIES.items():
+            for word in properties:
+                self.assertIsInstance(vars(getattr(module(place), name))[word], property)
+
     def test_other_members_of_a_program(self):
         members = vars(module("programs").Program)
-        self.assertIsInstance(members["width"], property)
         self.assertIsInstance(members["idle"], classmethod)
         self.assertEqual(members["MOST_WIDTH"], 8)
         self.assertTrue(inspect.isgeneratorfunction(members["trail"]))
 
     def test_other_members_of_a_log(self):
         members = vars(module("logs").KeptLog)
-        self.assertIsInstance(members["program"], property)
-        self.assertIsInstance(members["worked"], property)
         self.assertIn("__getitem__", members)
         self.assertEqual(inspect.signature(members["put"]).parameters["events"].kind, inspect.Parameter.VAR_POSITIONAL)
         self.assertEqual(module("logs").MOST_EVENTS, 200)
@@ -128,7 +186,15 @@ class Interface(unittest.TestCase):
         parameter = inspect.signature(module("forgetting").falls).parameters["last"]
         self.assertEqual((parameter.kind, parameter.default), (inspect.Parameter.KEYWORD_ONLY, None))
 
-    def test_a_paper_has_its_attributes_from_the_beginning(self):
+    def test_attributes_are_there_from_the_beginning(self):
         paper = module("papers").Paper(1, 2, 3, 4, 5)
         for name in ("first", "last", "start", "end"):
             self.assertIn(name, vars(paper))
+        found = module("starts").Starts("on", (), 1, [])
+        for name in ("mode", "numerators", "denominator"):
+            self.assertIn(name, vars(found))
+
+    def test_bases(self):
+        comparing = module("comparing")
+        for name in ("Alike", "Apart"):
+            self.assertEqual(getattr(comparing, name).__bases__, (comparing.Comparison,))

@@ -1,14 +1,13 @@
 """States as rows and events as tables, such that a product does what the program does."""
 
-from twinbegun.errors import InvalidEvent, InvalidRow, InvalidState
-from twinbegun.programs import is_whole
-from twinbegun.tables import identity
+from twinbegun.errors import InvalidEvent, InvalidRow
+from twinbegun.programs import check_state, is_whole
+from twinbegun.tables import identity, row_less
 
 
 def row_of(program, state):
     """The row of a state."""
-    if not program.is_state(state):
-        raise InvalidState()
+    check_state(program, state)
     mode, values = state
     row = []
     for other in program.modes():
@@ -55,5 +54,5 @@ def _block_of(program, mode, event):
     rows = [base]
     for values in identity(many):
         row = row_of(program, program.after((mode, values), event))
-        rows.append(tuple([number - start for number, start in zip(row, base)]))
+        rows.append(row_less(row, base))
     return rows

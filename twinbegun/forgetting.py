@@ -3,7 +3,7 @@
 from twinbegun.compiling import row_of
 from twinbegun.logs import check_place
 from twinbegun.papers import follow, whole
-from twinbegun.tables import rank
+from twinbegun.tables import rank, row_less
 
 
 def rank_of(log, first, last):
@@ -27,9 +27,8 @@ def falls(log, first, *, last=None):
 def meeting(log, first, one, other):
     """The first place from first on at which the two states meet, or None."""
     check_place(log, first, 0)
-    rows = [row_of(log.program, state) for state in (one, other)]
     # Two rows lead to the same row where their difference leads to zeros.
-    row = tuple([mine - theirs for mine, theirs in zip(*rows)])
+    row = row_less(row_of(log.program, one), row_of(log.program, other))
     place = _first_place(first, len(log), lambda at: not any(follow(log, first, at, row).end))
     return place if place <= len(log) else None
 

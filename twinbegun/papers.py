@@ -8,6 +8,20 @@ from twinbegun.tables import identity, row_times, solutions, table_times
 from twinbegun.ways import STEP, TWIN, way
 
 
+def copied(value):
+    """The value, with new lists in the place of the lists in it."""
+    if isinstance(value, list):
+        return [copied(item) for item in value]
+    if isinstance(value, tuple):
+        return tuple([copied(item) for item in value])
+    return value
+
+
+def listed(value):
+    """A new list of the items of a list or a tuple; any other value itself."""
+    return list(copied(value)) if is_list(value) else value
+
+
 class Paper:
     """Says that a row at one place leads to a row at another place; it never changes."""
 
@@ -16,11 +30,11 @@ class Paper:
         self.last = last
         self.start = start
         self.end = end
-        self._parts = _copied(parts)
+        self._parts = copied(parts)
 
     def parts(self):
         """The list of the parts, or the very value that was passed if it was no list."""
-        return list(_copied(self._parts)) if is_list(self._parts) else self._parts
+        return listed(self._parts)
 
     def holds(self, log):
         """Whether the kept tables of the log lead from the start to the end as the parts say."""
@@ -45,15 +59,6 @@ class Paper:
 
     def __repr__(self):
         return f"Paper({len(self._parts) if is_list(self._parts) else 0} parts)"
-
-
-def _copied(value):
-    """The value, with new lists in the place of the lists in it."""
-    if isinstance(value, list):
-        return [_copied(item) for item in value]
-    if isinstance(value, tuple):
-        return tuple([_copied(item) for item in value])
-    return value
 
 
 def _is_part(log, value):

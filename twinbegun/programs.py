@@ -112,6 +112,12 @@ def check_rules(rules, modes, registers, signs):
         seen.append(rule[:2])
 
 
+def check_state(program, value):
+    """Refuses a value that is no state of the program."""
+    if not program.is_state(value):
+        raise InvalidState()
+
+
 def check_events(program, events):
     """Refuses a value that is no list of events of the program."""
     if not is_list(events):
@@ -205,8 +211,7 @@ class Program:
 
     def run(self, state, events):
         """The state behind a list of events."""
-        if not self.is_state(state):
-            raise InvalidState()
+        check_state(self, state)
         check_events(self, events)
         for event in events:
             state = self._moved(state, event)
@@ -214,8 +219,7 @@ class Program:
 
     def trail(self, state, events):
         """Yields the state, and then the state behind each event."""
-        if not self.is_state(state):
-            raise InvalidState()
+        check_state(self, state)
         check_events(self, events)
         # The list is the caller's, who may change it between two items.
         ahead = list(events)

@@ -13,6 +13,11 @@ def row_times(row, table):
     return tuple([sum([number * factor for number, factor in zip(row, column)]) for column in zip(*table)])
 
 
+def row_less(one, other):
+    """The row less the other one, number by number."""
+    return tuple([mine - theirs for mine, theirs in zip(one, other)])
+
+
 def table_times(one, other):
     """The product of two tables."""
     return tuple([row_times(row, other) for row in one])
