@@ -1,7 +1,8 @@
-"""The examples of the document that use the modules there are."""
+"""The examples of the document."""
 
 from twinbegun.comparing import compare
 from twinbegun.compiling import row_of, table_of
+from twinbegun.desk import Desk
 from twinbegun.edits import amount_for, outcome, plan
 from twinbegun.forgetting import falls, meeting, needed_from
 from twinbegun.logs import KeptLog
@@ -9,8 +10,11 @@ from twinbegun.papers import ask, follow
 from twinbegun.probes import Probe
 from twinbegun.programs import Program
 from twinbegun.starts import starts
+from twinbegun.stores import Store
 from twinbegun.tables import kernel, rank
+from twinbegun.texts import program_text, read_events
 from twinbegun.ways import opened, way
+from twinbegun.workspaces import Workspace
 from tests.checks import Checks, cash
 
 
@@ -77,3 +81,26 @@ class Examples(Checks):
         one = Probe(program, ("on", (0,)), [("on", (("cash", 1),))])
         found = compare(one, Probe(other, ("on", (0,)), one.look()))
         self.assert_same([found.told(), len(found.events()), compare(one, one).told()], ["apart", 2, "alike"])
+
+    def test_stores(self):
+        store = Store(Program.idle("a"), size=2)
+        store.put(("a", 1), ("a", 2), ("a", 3))
+        before = store.pending()
+        store.crash(0, 2)
+        self.assert_same([before, store.events(), store.pages()], [
+            [(0, (("a", 1),)), (0, (("a", 1), ("a", 2))), (1, (("a", 3),))], [("a", 1)], [(("a", 1),)]])
+
+    def test_texts(self):
+        wanted = "modes on\nregisters cash\nsigns pay reset\n"
+        wanted += "rule on pay on cash = 1*cash + 1*amount\nrule on reset on cash = 0\n"
+        self.assert_same(program_text(cash()), wanted)
+
+    def test_a_text_with_a_wrong_line(self):
+        self.assert_refused("InvalidText", [1], read_events, "pay 3\nreset 00\n")
+
+    def test_desks(self):
+        desk = Desk(Workspace(cash()))
+        lines = ["new may", "put may pay 3", "put may reset 0", "ask may 0 1 on 5", "rank may 0 2", "height may 2", "undo",
+                 "ask may 0 2 on 5", "ask may 0 1 on"]
+        wanted = ["ok", "ok", "ok", "on 8", "1", "1", "ok", "error InvalidRange", "invalid"]
+        self.assert_same([desk.say(line) for line in lines], wanted)

@@ -58,6 +58,12 @@ FUNCTIONS = {
         "are_alike": ["one", "other"],
         "same_effect": ["log", "first", "last", "other", "from_place", "to_place"],
     },
+    "texts": {
+        "program_text": ["program"],
+        "events_text": ["events"],
+        "read_program": ["text"],
+        "read_events": ["text"],
+    },
 }
 
 METHODS = {
@@ -133,6 +139,41 @@ METHODS = {
         "told": [],
         "holds": [],
     },
+    ("stores", "Store"): {
+        "__init__": ["program", "size"],
+        "put": ["events"],
+        "sync": [],
+        "pending": [],
+        "pages": [],
+        "crash": ["kept"],
+        "log": [],
+        "events": [],
+        "twin": [],
+        "__len__": [],
+        "__repr__": [],
+    },
+    ("workspaces", "Workspace"): {
+        "__init__": ["program", "limit"],
+        "set_limit": ["limit"],
+        "apply": ["commands"],
+        "undo": [],
+        "redo": [],
+        "history": [],
+        "names": [],
+        "log_of": ["name"],
+        "twin": [],
+        "__eq__": ["other"],
+        "__len__": [],
+        "__repr__": [],
+    },
+    ("desk", "Desk"): {
+        "__init__": ["workspace"],
+        "say": ["line"],
+        "__call__": ["line"],
+        "workspace": [],
+        "lines": [],
+        "__len__": [],
+    },
 }
 
 PROPERTIES = {
@@ -140,6 +181,8 @@ PROPERTIES = {
     ("logs", "KeptLog"): ["program", "worked"],
     ("probes", "Probe"): ["program", "start"],
     ("comparing", "Comparison"): ["one", "other"],
+    ("stores", "Store"): ["size", "restarts"],
+    ("workspaces", "Workspace"): ["program", "limit", "busy"],
 }
 
 
@@ -182,9 +225,28 @@ class Interface(unittest.TestCase):
         self.assertEqual(inspect.signature(members["put"]).parameters["events"].kind, inspect.Parameter.VAR_POSITIONAL)
         self.assertEqual(module("logs").MOST_EVENTS, 200)
 
-    def test_the_last_place_of_falls_is_passed_by_name(self):
-        parameter = inspect.signature(module("forgetting").falls).parameters["last"]
-        self.assertEqual((parameter.kind, parameter.default), (inspect.Parameter.KEYWORD_ONLY, None))
+    def test_what_is_passed_by_name_only(self):
+        for call, name, default in [
+            (module("forgetting").falls, "last", None),
+            (module("stores").Store, "size", 4),
+            (module("workspaces").Workspace, "limit", 8),
+        ]:
+            parameter = inspect.signature(call).parameters[name]
+            self.assertEqual((parameter.kind, parameter.default), (inspect.Parameter.KEYWORD_ONLY, default))
+
+    def test_any_number_of_arguments(self):
+        for call, name in [
+            (module("stores").Store.put, "events"),
+            (module("stores").Store.crash, "kept"),
+            (module("workspaces").Workspace.apply, "commands"),
+        ]:
+            self.assertEqual(inspect.signature(call).parameters[name].kind, inspect.Parameter.VAR_POSITIONAL)
+
+    def test_other_members_of_a_workspace(self):
+        made = module("workspaces").Workspace
+        self.assertIn("__contains__", vars(made))
+        self.assertEqual(vars(made)["MOST"], 12)
+        self.assertIsNotNone(vars(made)["limit"].fset)
 
     def test_attributes_are_there_from_the_beginning(self):
         paper = module("papers").Paper(1, 2, 3, 4, 5)
