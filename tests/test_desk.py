@@ -10,6 +10,9 @@ MOST = 10 ** 12
 NO_NUMBERS = ["00", "01", "-0", "-01", "+1", "--1", "-", "1-", "1.0", "1e3", "0x1", "1_0", "a", "1a", "one", "9" * 61,
               "-" + "9" * 61, "0" * 60, "3\n", "\n3", "\n"]
 ODD_NAMES = ["A", "abcdefg", "one", "amount", "a1", "1", "-5", "*", ";", "=", "a*b", ".", "a\n", "\na", "\n", "new", "undo"]
+# Lines that filled() answers, and that each can have a word too much or too little.
+RIGHT = ["new c", "put a pay 3", "cut a 0", "branch a c", "drop a", "undo", "redo", "names", "ask a 0 2 on 5", "rank a 0 2",
+         "height a 2"]
 
 
 def desk(program=None, limit=8):
@@ -158,9 +161,7 @@ class Answers(Asked):
 
     def test_too_few_and_too_many_words(self):
         found = filled()
-        right = ["new c", "put a pay 3", "cut a 0", "branch a c", "drop a", "undo", "redo", "names", "ask a 0 3 on 5",
-                 "rank a 0 3", "height a 3"]
-        for line in right:
+        for line in RIGHT:
             words = line.split(" ")
             for many in range(1, len(words)):
                 self.refuse(found, " ".join(words[:many]))
@@ -170,9 +171,7 @@ class Answers(Asked):
     def test_empty_words(self):
         found = filled()
         found.say("undo")
-        right = ["new c", "put a pay 3", "cut a 0", "branch a c", "drop a", "undo", "redo", "names", "ask a 0 2 on 5",
-                 "rank a 0 2", "height a 2"]
-        for line in right:
+        for line in RIGHT:
             words = line.split(" ")
             for at in range(len(words) + 1):
                 self.refuse(found, " ".join(words[:at] + [""] + words[at:]))

@@ -15,26 +15,36 @@ def idle():
     return Program.idle("a")
 
 
-class Pages(Checks):
-    def told(self, store):
-        """All that a store tells."""
-        return (store.size, store.restarts, store.events(), store.pending(), store.pages(), len(store), repr(store))
+def half_synced():
+    """A store with a synced page, a page that is not full, and two writes that are pending."""
+    store = Store(cash(), size=2)
+    store.put(("pay", 1), ("pay", 2), ("pay", 3))
+    store.sync()
+    store.put(("pay", 4), ("reset", 5))
+    return store
 
+
+def told(store):
+    """All that a store tells."""
+    return (store.size, store.restarts, store.events(), store.pending(), store.pages(), len(store), repr(store))
+
+
+class Pages(Checks):
     def check(self, store, plain):
         """The store is as the plain one."""
         many = len(plain.events)
         wanted = (plain.size, plain.restarts, plain.events, plain.pending, plain.pages(), many, f"Store({many} events)")
-        self.assert_same(self.told(store), wanted)
+        self.assert_same(told(store), wanted)
 
     def test_the_empty_store(self):
-        self.assert_same(self.told(Store(idle())), (4, 0, [], [], [], 0, "Store(0 events)"))
+        self.assert_same(told(Store(idle())), (4, 0, [], [], [], 0, "Store(0 events)"))
         store = Store(idle(), size=1)
         store.sync()
-        self.assert_same(self.told(store), (1, 0, [], [], [], 0, "Store(0 events)"))
+        self.assert_same(told(store), (1, 0, [], [], [], 0, "Store(0 events)"))
         store.crash()
-        self.assert_same(self.told(store), (1, 1, [], [], [], 0, "Store(0 events)"))
+        self.assert_same(told(store), (1, 1, [], [], [], 0, "Store(0 events)"))
         store.put()
-        self.assert_same(self.told(store), (1, 1, [], [], [], 0, "Store(0 events)"))
+        self.assert_same(told(store), (1, 1, [], [], [], 0, "Store(0 events)"))
 
     def test_writes_have_all_events_of_their_page(self):
         store = Store(idle(), size=2)
@@ -54,27 +64,27 @@ class Pages(Checks):
         store = Store(idle(), size=2)
         store.put(A, B, C)
         self.assertIs(store.crash(), None)
-        self.assert_same(self.told(store), (2, 1, [], [], [], 0, "Store(0 events)"))
+        self.assert_same(told(store), (2, 1, [], [], [], 0, "Store(0 events)"))
         store.put(A, B, C)
         store.sync()
         store.put(D, E)
         store.crash()
-        self.assert_same(self.told(store), (2, 2, [A, B, C], [], [(A, B), (C,)], 3, "Store(3 events)"))
+        self.assert_same(told(store), (2, 2, [A, B, C], [], [(A, B), (C,)], 3, "Store(3 events)"))
 
     def test_a_crash_that_keeps_a_later_page_and_not_an_earlier_one(self):
         store = Store(idle(), size=2)
         store.put(A, B, C, D, E)
         store.crash(2, 3, 4)
-        self.assert_same(self.told(store), (2, 1, [], [], [], 0, "Store(0 events)"))
+        self.assert_same(told(store), (2, 1, [], [], [], 0, "Store(0 events)"))
         store.put(A, B, C, D, E)
         store.crash(0, 2, 3, 4)
-        self.assert_same(self.told(store), (2, 2, [A], [], [(A,)], 1, "Store(1 events)"))
+        self.assert_same(told(store), (2, 2, [A], [], [(A,)], 1, "Store(1 events)"))
         store.put(B, C, D, E)
         store.crash(0, 3)
-        self.assert_same(self.told(store), (2, 3, [A, B], [], [(A, B)], 2, "Store(2 events)"))
+        self.assert_same(told(store), (2, 3, [A, B], [], [(A, B)], 2, "Store(2 events)"))
         store.put(C, D, E)
         store.crash(0, 2)
-        self.assert_same(self.told(store), (2, 4, [A, B, C], [], [(A, B), (C,)], 3, "Store(3 events)"))
+        self.assert_same(told(store), (2, 4, [A, B, C], [], [(A, B), (C,)], 3, "Store(3 events)"))
 
     def test_pages_that_are_gone_do_not_come_again(self):
         store = Store(idle(), size=1)
@@ -186,14 +196,6 @@ class Wrong(Checks):
             Store(idle(), 3)
         self.assert_same(Store(size=3, program=idle()).size, 3)
 
-    def store(self):
-        """A store with a synced page, a page that is not full, and two writes that are pending."""
-        store = Store(cash(), size=2)
-        store.put(("pay", 1), ("pay", 2), ("pay", 3))
-        store.sync()
-        store.put(("pay", 4), ("reset", 5))
-        return store
-
     def check_as_it_was(self, store):
         self.assert_same(store.events(), [("pay", 1), ("pay", 2), ("pay", 3), ("pay", 4), ("reset", 5)])
         self.assert_same(store.pages(), [(("pay", 1), ("pay", 2)), (("pay", 3),)])
@@ -201,7 +203,7 @@ class Wrong(Checks):
         self.assert_same((store.restarts, len(store), repr(store)), (0, 5, "Store(5 events)"))
 
     def test_events(self):
-        store = self.store()
+        store = half_synced()
         good = [("pay", 1), ("reset", 2), ("pay", MOST)]
         for value in ODD + [("pay",), ["pay", 1], ("pay", 1, 1), ("on", 1), ("pay", True), ("pay", MOST + 1), (1, "pay"),
                             [("pay", 1)], [], ()]:
@@ -216,7 +218,7 @@ class Wrong(Checks):
         self.assert_same((len(store), store.pending()), (0, []))
 
     def test_indexes(self):
-        store = self.store()
+        store = half_synced()
         for value in beyond(0, 1):
             self.assert_refused("InvalidPending", [value], store.crash, value)
             self.assert_refused("InvalidPending", [value], store.crash, 0, value)
@@ -230,29 +232,19 @@ class Wrong(Checks):
 
 
 class Copies(Checks):
-    def store(self):
-        store = Store(cash(), size=2)
-        store.put(("pay", 1), ("pay", 2), ("pay", 3))
-        store.sync()
-        store.put(("pay", 4), ("reset", 5))
-        return store
-
-    def told(self, store):
-        return (store.size, store.restarts, store.events(), store.pending(), store.pages(), len(store), repr(store))
-
     def test_returned_lists_are_new(self):
-        store = self.store()
-        before = self.told(store)
+        store = half_synced()
+        before = told(store)
         for call in (store.events, store.pending, store.pages):
             call().append(None)
             call().clear()
             call().reverse()
-        self.assert_same(self.told(store), before)
+        self.assert_same(told(store), before)
         store.crash(0, 1)
         self.assert_same(len(store), 5)
 
     def test_logs(self):
-        store = self.store()
+        store = half_synced()
         log = store.log()
         self.assertIs(type(log), KeptLog)
         self.assertEqual(log, KeptLog(cash(), store.events()))
@@ -266,31 +258,31 @@ class Copies(Checks):
         self.assert_same((len(Store(cash()).log()), Store(cash()).log().worked), (0, 0))
 
     def test_twins(self):
-        store = self.store()
+        store = half_synced()
         store.crash(0)
         store.put(("pay", 6))
         twin = store.twin()
         self.assertIs(type(twin), Store)
-        before = self.told(store)
-        self.assert_same(self.told(twin), before)
+        before = told(store)
+        self.assert_same(told(twin), before)
         self.assert_same(before[:3], (2, 1, [("pay", 1), ("pay", 2), ("pay", 3), ("pay", 4), ("pay", 6)]))
         twin.put(("reset", 1))
         twin.sync()
         twin.crash()
-        self.assert_same(self.told(store), before)
+        self.assert_same(told(store), before)
         self.assert_same((twin.restarts, len(twin)), (2, 6))
-        told = self.told(twin)
+        kept = told(twin)
         store.crash()
         store.crash()
-        self.assert_same(self.told(twin), told)
+        self.assert_same(told(twin), kept)
         self.assert_same((store.restarts, len(store)), (3, 4))
 
     def test_each_deed_of_a_twin_alone(self):
         for deed in ("put", "sync", "crash"):
             for mine, theirs in ((0, 1), (1, 0)):
-                pair = [self.store()]
+                pair = [half_synced()]
                 pair.append(pair[0].twin())
-                before = self.told(pair[0])
+                before = told(pair[0])
                 getattr(pair[mine], deed)(*[("pay", 7)] if deed == "put" else [])
-                self.assert_same(self.told(pair[theirs]), before)
-                self.assertNotEqual(self.told(pair[mine]), before)
+                self.assert_same(told(pair[theirs]), before)
+                self.assertNotEqual(told(pair[mine]), before)

@@ -20,8 +20,7 @@ def plan(log, first, last, edits):
     _check_edits(log, first, last, edits)
     pieces = []
     here = first
-    # Sorting keeps the order of the events that are put at one place; they stand ahead of its own event.
-    for edit in sorted(edits, key=lambda one: (one[1], one[0] != PUT)):
+    for edit in sorted(edits, key=_turn_of):
         if here < edit[1]:
             pieces.append((RUN, here, edit[1]))
             here = edit[1]
@@ -87,6 +86,12 @@ def amount_for(log, first, last, state, place, target, value):
     if step == 0:
         return ("every",) if missing == 0 else None
     return ("one", missing // step) if missing % step == 0 else None
+
+
+def _turn_of(edit):
+    """By what edits are sorted, which leaves those that put events at one place in their order."""
+    # What is put at a place stands ahead of the event of this place.
+    return edit[1], edit[0] != PUT
 
 
 def _is_edit(log, first, last, value):

@@ -36,7 +36,8 @@ class Probe:
         for name, number in zip(self._program.registers(), values):
             known[name] = number
         # There is at most one pair for the mode; no pair at all makes 0.
-        return sum([factor * known[source] for name, terms in self._look if name == mode for source, factor in terms])
+        chosen = [terms for other, terms in self._look if other == mode]
+        return sum([factor * known[source] for terms in chosen for source, factor in terms])
 
     def value(self, events):
         """The value of the look behind a list of events."""
