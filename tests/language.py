@@ -289,12 +289,43 @@ def class_body(source, node, error):
             yield "L5", place
 
 
+def is_property(node):
+    return any(getattr(part, "id", "") == "property" for part in node.decorator_list)
+
+
 def is_setter(node):
     return any(isinstance(part, ast.Attribute) and part.attr == "setter" for part in node.decorator_list)
 
 
 def setters(node):
     return {part.name for part in own_methods(node) if is_setter(part)}
+
+
+def closed_names(sources):
+    """The names of which a class has a property without a setter."""
+    names = set()
+    for source in sources:
+        for node in source.of(ast.ClassDef):
+            names |= {part.name for part in own_methods(node) if is_property(part)} - setters(node)
+    return names
+
+
+def assignments(sources):
+    """Triples of the name of an attribute, a source and a node that assigns or deletes it, of whatever object."""
+    for source in sources:
+        for node in source.of(ast.Attribute):
+            if not isinstance(node.ctx, ast.Load):
+                yield node.attr, source, node
+        for node in source.of(ast.Call):
+            if called(node) == "setattr" and len(node.args) == 3:
+                yield getattr(node.args[1], "value", None), source, node
+
+
+def properties(sources):
+    closed = closed_names(sources)
+    for name, source, node in assignments(sources):
+        if name in closed:
+            yield "L5", f"{source.name}:{node.lineno}"
 
 
 def functions(sources):
@@ -493,10 +524,15 @@ def words(sources):
             yield "L12", source.name
 
 
-CHECKS = (files, sizes, imports, module_level, classes, functions, statements, calls, names, words)
+CHECKS = (files, sizes, imports, module_level, classes, properties, functions, statements, calls, names, words)
+
+
+def sources_of(package):
+    """The sources of the files of a package, sorted by their names."""
+    return [Source(name, package[name]) for name in sorted(package)]
 
 
 def faults(package):
     """The sorted list of the pairs of a rule and a place where the package breaks it."""
-    sources = [Source(name, package[name]) for name in sorted(package)]
+    sources = sources_of(package)
     return sorted({fault for check in CHECKS for fault in check(sources)})

@@ -248,6 +248,12 @@ class Interface(unittest.TestCase):
         self.assertEqual(vars(made)["MOST"], 12)
         self.assertIsNotNone(vars(made)["limit"].fset)
 
+    def test_start_is_a_property_of_probes_alone(self):
+        start = vars(module("probes").Probe)["start"]
+        self.assertIsInstance(start, property)
+        self.assertIsNotNone(start.fset)
+        self.assertNotIn("start", vars(module("papers").Paper))
+
     def test_attributes_are_there_from_the_beginning(self):
         paper = module("papers").Paper(1, 2, 3, 4, 5)
         for name in ("first", "last", "start", "end"):

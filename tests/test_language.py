@@ -4,7 +4,7 @@ import os
 import unittest
 
 import twinbegun
-from tests.language import faults
+from tests.language import assignments, closed_names, faults, sources_of
 
 FOLDER = os.path.dirname(os.path.abspath(twinbegun.__file__))
 
@@ -36,6 +36,15 @@ class Package(unittest.TestCase):
     def test_no_rule_is_broken(self):
         self.assertEqual(faults(read_package()[0]), [])
 
+    def test_no_name_is_assigned_of_which_a_property_has_no_setter(self):
+        sources = sources_of(read_package()[0])
+        closed = closed_names(sources)
+        assigned = {name for name, _, _ in assignments(sources)}
+        # All of these are there, so the reader overlooks neither properties nor assignments.
+        self.assertLessEqual({"busy", "one", "other", "program", "restarts", "size", "width", "worked"}, closed)
+        self.assertLessEqual({"first", "last", "start", "end", "limit", "mode", "code", "_start"}, assigned)
+        self.assertEqual(closed & assigned, set())
+
 
 GOOD = '''"""A sample that keeps the rules."""
 
@@ -62,6 +71,14 @@ class Box:
     def many(self):
         return len(self._rows)
 
+    @property
+    def first(self):
+        return self._rows[0]
+
+    @first.setter
+    def first(self, value):
+        raise AttributeError("a box never changes")
+
     @classmethod
     def made(cls, *rows):
         return cls(rows)
@@ -82,7 +99,17 @@ class Box:
 
     def __repr__(self):
         return f"Box({len(self._rows)} rows)"
+
+
+class Note:
+    """A note."""
+
+    def __init__(self, first):
+        self.first = first
 '''
+
+# A class with a property that has no setter.
+SHUT = "class A:\n    @property\n    def much(self):\n        return 1\n\n\n"
 
 BAD = [
     ("L2", "import math"),
@@ -108,6 +135,14 @@ BAD = [
     ("L5", "class A(ValueError):\n    CODE = 1"),
     ("L5", "class A:\n    def __getitem__(self, at):\n        return at"),
     ("L5", "def f(a):\n    return list(reversed(a))"),
+    ("L5", SHUT + "class B:\n    def __init__(self, much):\n        self.much = much"),
+    ("L5", SHUT + "class B(A):\n    def f(self):\n        self.much: int = 1"),
+    ("L5", SHUT + "def f(a):\n    a.much += 1"),
+    ("L5", SHUT + "def f(a):\n    a.more, (a.much, b) = 1, (2, 3)\n    return b"),
+    ("L5", SHUT + "def f(a):\n    for a.much in (1, 2):\n        pass"),
+    ("L5", SHUT + "def f(a):\n    setattr(a, 'much', 1)"),
+    ("L5", SHUT + "def f(a):\n    del a.much"),
+    ("L5", "class A:\n    def __init__(self):\n        self.many = 1"),
     ("L6", "def f():\n    global A\n    A = 1"),
     ("L6", "async def f():\n    return 1"),
     ("L7", "def f(a):\n    return a / 2"),
@@ -171,6 +206,16 @@ class Reader(unittest.TestCase):
             self.assertIn(rule, [name for name, _ in found], text)
             for _, place in found:
                 self.assertIn("bad", place, text)
+
+    def test_each_property_of_a_name_that_is_assigned_has_a_setter(self):
+        shut = SHUT.rstrip() + "\n"
+        given = shut + "\n    @much.setter\n    def much(self, value):\n        pass\n"
+        user = "class B:\n    def f(self):\n        self.much = 1\n"
+        package = {"__init__.py": "", "given.py": given, "user.py": user}
+        self.assertEqual(faults(package), [])
+        # One class without a setter is enough, wherever it stands.
+        self.assertEqual(faults({**package, "shut.py": shut}), [("L5", "user.py:3")])
+        self.assertEqual(faults({"__init__.py": "", "given.py": given, "shut.py": shut}), [])
 
     def test_names_of_files(self):
         for name in ("Upper.py", "a-b.py", "1a.py"):

@@ -3,6 +3,7 @@
 from twinbegun.compiling import row_of
 from twinbegun.logs import KeptLog
 from twinbegun.papers import Paper, ask, follow, whole
+from twinbegun.probes import Probe
 from twinbegun.ways import most_opened, opened, way
 from tests.checks import (
     ODD, STEPS, Checks, beyond, cash, chance, drops, keeps, lights, moved, nested, pairs, sample_logs, some_logs,
@@ -49,6 +50,25 @@ class Papers(Checks):
                 self.assert_same(paper.parts(), list(value))
             else:
                 self.assertIs(paper.parts(), value)
+
+    def test_starts_of_any_kind(self):
+        states = [("on", (9,)), ["on", (9,)], ("on", [9]), (1, 9), [1, 9], (True, 9), "on", b"on", {"on": 9}, 1.5]
+        probe = Probe(cash(), ("on", (3,)), [])
+        for value in [*ODD, *states, probe, probe.start, cash(), KeptLog(cash()), Paper(0, 0, (1, 0), (1, 0), [])]:
+            paper = Paper(0, 1, value, (1, 5), [("step", 1, 0)])
+            self.assert_same(vars(paper)["start"], value)
+            self.assert_same(paper.start, value)
+            self.assert_same((paper.first, paper.last, paper.end, paper.parts()), (0, 1, (1, 5), [("step", 1, 0)]))
+            self.assert_same(Paper(parts=[], end=None, start=value, last=None, first=None).start, value)
+            # Only from the row of 2 does the event lead to the row of 5.
+            self.assertIs(paper.holds(KeptLog(cash(), [("pay", 3)])), False)
+            self.assert_same((repr(paper), paper.start), ("Paper(1 parts)", value))
+        self.assert_same(probe.start, ("on", (3,)))
+        self.assertIs(Paper(0, 1, (1, 2), (1, 5), [("step", 1, 0)]).holds(KeptLog(cash(), [("pay", 3)])), True)
+
+    def test_each_paper_has_a_start_of_its_own(self):
+        papers = [Paper(0, 0, value, value, []) for value in ODD]
+        self.assert_same([paper.start for paper in papers], ODD)
 
     def test_parts_are_copied(self):
         inner = ["step", 2, [0]]

@@ -1,5 +1,6 @@
 """Promise 18: looks, their values, and probes."""
 
+from twinbegun.papers import Paper
 from twinbegun.probes import Probe
 from twinbegun.programs import Program
 from tests.checks import (
@@ -26,6 +27,12 @@ def some_probes(seed, size=60):
     dice = chance(seed)
     for program in [*samples(), drops(), *[some_program(dice) for _ in range(size)]]:
         yield program, some_state(dice, program), some_look(dice, program)
+
+
+def told_of(probe, state, events):
+    """All that a probe tells, with its values at a state and behind a list of events."""
+    parts = [probe.start, probe.program.modes(), probe.program.rules(), probe.look()]
+    return [*parts, probe.value_at(state), probe.value(events), probe(events), probe.value([])]
 
 
 class Values(Checks):
@@ -110,6 +117,46 @@ class Parts(Checks):
         for name in ("program", "start"):
             with self.assertRaises(AttributeError):
                 setattr(probe, name, None)
+
+    def test_the_start_stays_behind_each_call(self):
+        dice = chance(185)
+        for program, start, look in some_probes(185):
+            probe = Probe(program, start, look)
+            events = some_events(dice, program)
+            state = some_state(dice, program)
+            calls = [(probe.value, events), (probe.value_at, state), (probe, events)]
+            for call, passed in calls + calls[::-1]:
+                self.assert_same(probe.start, start)
+                call(passed)
+                self.assert_same(probe.start, start)
+            for call, name in [(probe.value, "InvalidEvent"), (probe.value_at, "InvalidState"), (probe, "InvalidEvent")]:
+                self.assert_refused(name, [] if name == "InvalidState" else [0], call, None)
+                self.assert_same(probe.start, start)
+
+    def test_nothing_that_is_done_to_the_start_changes_what_is_told(self):
+        dice = chance(186)
+        for program, start, look in some_probes(186, 20):
+            probe = Probe(program, start, look)
+            events = some_events(dice, program)
+            state = some_state(dice, program)
+            before = told_of(probe, state, events)
+            for value in [start, some_state(dice, program), program.first_state(), *ODD]:
+                with self.assertRaises(AttributeError):
+                    probe.start = value
+                self.assert_same(told_of(probe, state, events), before)
+            with self.assertRaises(AttributeError):
+                probe.start += ()
+            with self.assertRaises(AttributeError):
+                del probe.start
+            self.assert_same(told_of(probe, state, events), before)
+            self.assert_same(before[0], start)
+
+    def test_papers_and_probes_side_by_side(self):
+        probe = Probe(cash(), ("on", (3,)), [("on", (("cash", 1),))])
+        paper = Paper(0, 0, (1, 7), (1, 7), [])
+        self.assert_same((probe.start, paper.start, probe.value([])), (("on", (3,)), (1, 7), 3))
+        other = Probe(cash(), ("on", (4,)), [("on", (("cash", 1),))])
+        self.assert_same((probe.start, other.start, probe([]), other([])), (("on", (3,)), ("on", (4,)), 3, 4))
 
     def test_by_name(self):
         probe = Probe(look=[("on", (("one", 4),))], start=("on", (3,)), program=cash())

@@ -24,6 +24,12 @@ class Probe:
         """The state ahead of all events."""
         return self._start
 
+    @start.setter
+    def start(self, value):
+        # Papers assign an attribute of this name, so the language rules ask for a setter here.
+        # It refuses, as Python does for the properties that have none.
+        raise AttributeError("a probe never changes")
+
     def look(self):
         """The list of the pairs of the look."""
         return list(self._look)
